@@ -1,0 +1,1 @@
+"""Boxwright: rows over names made into rows over few boxes."""
