@@ -1,26 +1,39 @@
 """Ways between blocks: what is reached, what comes where, and gates."""
 
 
-def aheads(ways):
-    # The nearest blocks stand first: later steps lean on each block standing behind its gate.
-    found = {0: None}
-    queue = [0]
+def found_from(starts, further):
+    # Each thing found with the one ahead of it, None for the starts. The nearest stand first: others lean on that.
+    found = {}
+    queue = []
+    for start in starts:
+        if start not in found:
+            found[start] = None
+            queue.append(start)
     done = 0
     while done < len(queue):
-        block = queue[done]
+        thing = queue[done]
         done += 1
-        for further in ways[block]:
-            if further not in found:
-                found[further] = block
-                queue.append(further)
+        for other in further(thing):
+            if other not in found:
+                found[other] = thing
+                queue.append(other)
     return found
 
 
+def back_from(found, thing):
+    chain = [thing]
+    while found[chain[-1]] is not None:
+        chain.append(found[chain[-1]])
+    return chain
+
+
+def aheads(ways):
+    return found_from([0], lambda block: ways[block])
+
+
 def reached(ways):
-    told = [None for block in ways]
-    for block, ahead in aheads(ways).items():
-        told[block] = [block] if ahead is None else told[ahead] + [block]
-    return told
+    found = aheads(ways)
+    return [list(reversed(back_from(found, block))) if block in found else None for block in range(len(ways))]
 
 
 def comes(ways):
