@@ -253,6 +253,42 @@ def run_blocks(blocks, inputs, turns, seen=None):
     return machine.outcome("long")
 
 
+# Moves
+
+def rings(pairs):
+    """The rings of homes, each of which gets what the next one holds."""
+    source = {to: held for to, held in pairs if to != held}
+    found = set()
+    for start in source:
+        seen, home = [], start
+        while home in source and home not in seen:
+            seen.append(home)
+            home = source[home]
+        if home == start:
+            found.add(frozenset(seen))
+    return found
+
+
+def count_of_moves(pairs):
+    """How many rows there are just to be, by the words of [16]."""
+    two_slots = {to for to, held in pairs if to[0] == "slot" and held[0] == "slot"}
+    count = sum(2 if to in two_slots else 1 for to, held in pairs if to != held)
+    return count + sum(1 for ring in rings(pairs) if not ring & two_slots)
+
+
+def check_moves(test, pairs, rows):
+    test.assertEqual(len(rows), count_of_moves(pairs), (pairs, rows))
+    test.assertTrue(all(type(row) is tuple and len(row) == 3 and row[0] in ("move", "pull", "push") for row in rows))
+    homes = [("box", number) for number in range(2, 12)] + [("slot", number) for number in range(12)]
+    machine = Machine([], 0)
+    for home in homes:
+        machine.holds[home[1] if home[0] == "box" else home] = home
+    for row in rows:
+        machine.do(row)
+    held = {home: machine.holds[home[1] if home[0] == "box" else home] for home in homes}
+    test.assertEqual(held, {home: dict(pairs).get(home, home) for home in homes}, (pairs, rows))
+
+
 # Answers
 
 def lists_within(thing):
