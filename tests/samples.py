@@ -289,6 +289,52 @@ def check_moves(test, pairs, rows):
     test.assertEqual(held, {home: dict(pairs).get(home, home) for home in homes}, (pairs, rows))
 
 
+# Rows over boxes
+
+def random_box_row(rng, boxes=9, slots=6):
+    word = rng.choice(("put", "do", "do", "do", "do", "take", "tell", "turn", "move", "pull", "pull", "push", "push"))
+    one, other, more = [rng.randrange(boxes) for index in range(3)]
+    slot = rng.randrange(slots)
+    return {"put": ("put", one, rng.choice((0, 1, -1, 9))), "do": ("do", one, rng.choice(WORDS), other, more),
+            "take": ("take", one), "tell": ("tell", one), "turn": ("turn",), "move": ("move", one, other),
+            "pull": ("pull", one, slot), "push": ("push", slot, one)}[word]
+
+
+def random_box_rows(rng, most, boxes=9, slots=6):
+    return [random_box_row(rng, boxes, slots) for index in range(rng.randint(0, most))]
+
+
+def turnless_ring(blocks):
+    """Whether some ring of ways has no block with a turn."""
+    bare = {block for block, (rows, end) in enumerate(blocks) if ("turn",) not in rows}
+    ways = {block: [way for way in end_ways(blocks[block][1]) if way in bare] for block in bare}
+    while any(not further for further in ways.values()):
+        ways = {block: further for block, further in ways.items() if further}
+        ways = {block: [way for way in further if way in ways] for block, further in ways.items()}
+    return bool(ways)
+
+
+def random_boxed(rng, most=9):
+    """Boxed blocks of any shape: some without rows, some not reached, some that jump to block 0."""
+    count = rng.randint(1, most)
+    blocks = []
+    for block in range(count):
+        word = rng.choice(("go", "go", "go", "if", "if", "end"))
+        ways = [rng.randrange(count) for index in range(2)]
+        if word == "if" and rng.random() < 0.2:
+            ways[1] = ways[0]
+        end = {"go": ("go", ways[0]), "if": ("if", rng.randrange(4), *ways), "end": ("end",)}[word]
+        blocks.append((random_box_rows(rng, rng.choice((0, 0, 2, 4)), 4, 2), end))
+    while turnless_ring(blocks):
+        rng.choice(blocks)[0].append(("turn",))
+    return blocks
+
+
+def many_boxed(seed, count, most=9):
+    rng = random.Random(seed)
+    return [random_boxed(rng, most) for index in range(count)]
+
+
 # Answers
 
 def lists_within(thing):
